@@ -4,6 +4,7 @@ import (
 	"slices"
 
 	"gyttja/api"
+	"gyttja/pick"
 )
 
 // Read returns the thicknesses of the years of one reading of rows.
@@ -17,24 +18,12 @@ func Read(rows []api.Row, picks []int) ([]int, api.Errno) {
 	for _, n := range list {
 		count := n.lo
 		if n.choice {
-			count += pick(picks, taken, n.hi-n.lo+1)
+			count += pick.Index(picks, taken, n.hi-n.lo+1)
 			taken++
 		}
 		years = append(years, yearsOf(n, count)...)
 	}
 	return years, api.OK
-}
-
-// pick is the choice among so many candidates of the number that stands behind the numbers taken.
-func pick(picks []int, taken, candidates int) int {
-	if len(picks) == 0 {
-		return 0
-	}
-	rest := picks[taken%len(picks)] % candidates
-	if rest < 0 {
-		rest += candidates
-	}
-	return rest
 }
 
 // yearsOf returns the thicknesses of so many years of a row.

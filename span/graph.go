@@ -22,13 +22,13 @@ func everyClaim(int) bool { return true }
 
 // graphOf returns the graph of the claims of a valid list that may be used, by their indices.
 func graphOf(l []api.Claim, usable func(int) bool) graph {
-	var used []api.Claim
+	used := make([]api.Claim, 0, len(l))
 	for i, c := range l {
 		if usable(i) {
 			used = append(used, c)
 		}
 	}
-	g := graph{marks: marksOf(used)}
+	g := graph{marksOf(used), make([]move, 0, 2*len(used))}
 	for i, c := range l {
 		if !usable(i) {
 			continue

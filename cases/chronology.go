@@ -4,6 +4,7 @@ import (
 	"slices"
 
 	"gyttja/api"
+	"gyttja/mark"
 	"gyttja/pick"
 	"gyttja/span"
 )
@@ -29,8 +30,8 @@ func Chronology(w api.World, picks []int) ([]int, []api.Dated, api.Errno) {
 func filled(w api.World, d []api.Dated) []api.Dated {
 	years := yearsOf(d)
 	var l []api.Dated
-	for _, mark := range marksOf(w) {
-		l = append(l, api.Dated{Mark: mark, Year: years[mark]})
+	for _, m := range mark.OfWorld(w) {
+		l = append(l, api.Dated{Mark: m, Year: years[m]})
 	}
 	return l
 }
@@ -48,7 +49,7 @@ func CheckChronology(w api.World, d []api.Dated) ([]int, api.Errno) {
 	if e := Check(w); e != api.OK {
 		return nil, e
 	}
-	if !slices.EqualFunc(d, marksOf(w), func(x api.Dated, mark int) bool { return x.Mark == mark }) {
+	if !slices.EqualFunc(d, mark.OfWorld(w), func(x api.Dated, m int) bool { return x.Mark == m }) {
 		return nil, api.ErrMark
 	}
 	if slices.ContainsFunc(d, func(x api.Dated) bool { return !mayBe(x) }) {

@@ -4,6 +4,7 @@ import (
 	"slices"
 
 	"gyttja/api"
+	"gyttja/mark"
 	"gyttja/pick"
 )
 
@@ -80,7 +81,7 @@ func CheckChronology(l []api.Claim, d []api.Dated) api.Errno {
 	if e := Check(l); e != api.OK {
 		return e
 	}
-	marks := marksOf(l)
+	marks := mark.OfClaims(l)
 	if len(d) != len(marks) {
 		return api.ErrMark
 	}

@@ -4,6 +4,7 @@ import (
 	"slices"
 
 	"gyttja/api"
+	"gyttja/mark"
 )
 
 // move is a step, with the places of the marks that it joins, and the bound that it shows.
@@ -28,7 +29,7 @@ func graphOf(l []api.Claim, usable func(int) bool) graph {
 			used = append(used, c)
 		}
 	}
-	g := graph{marksOf(used), make([]move, 0, 2*len(used))}
+	g := graph{mark.OfClaims(used), make([]move, 0, 2*len(used))}
 	for i, c := range l {
 		if !usable(i) {
 			continue

@@ -5,6 +5,7 @@ import (
 	"strings"
 
 	"gyttja/api"
+	"gyttja/lines"
 )
 
 // mostDigits is how long a number in a text may be.
@@ -60,13 +61,8 @@ func Parse(text string) (s api.Sheet, at int, e api.Errno) {
 // parseLines reads the lines of a text. It throws the number of the first wrong one.
 func parseLines(text string) api.Sheet {
 	var s api.Sheet
-	no, begun := 0, false
-	for l := range strings.Lines(text) {
-		no++
-		words := wordsOf(strings.TrimSuffix(l, "\n"))
-		if len(words) == 0 || l[0] == '#' {
-			continue
-		}
+	begun := false
+	for no, words := range lines.Said(text) {
 		if begun {
 			s.Rows = append(s.Rows, parseRow(no, words))
 		} else {
@@ -74,14 +70,9 @@ func parseLines(text string) api.Sheet {
 		}
 	}
 	if !begun {
-		panic(wrongLine(no + 1))
+		panic(wrongLine(lines.Count(text) + 1))
 	}
 	return s
-}
-
-// wordsOf parts a line at spaces, and at no other white space.
-func wordsOf(line string) []string {
-	return strings.FieldsFunc(line, func(r rune) bool { return r == ' ' })
 }
 
 func parseHead(no int, words []string) api.Sheet {
@@ -105,17 +96,10 @@ func parseRow(no int, words []string) api.Row {
 	panic(wrongLine(no))
 }
 
-// parseNumber reads digits alone: strconv would allow signs and leading zeros.
 func parseNumber(no int, word string) int {
-	if len(word) > mostDigits || word[0] == '0' && word != "0" {
+	n, ok := lines.Number(word, mostDigits)
+	if !ok {
 		panic(wrongLine(no))
-	}
-	n := 0
-	for _, c := range []byte(word) {
-		if c < '0' || c > '9' {
-			panic(wrongLine(no))
-		}
-		n = 10*n + int(c-'0')
 	}
 	return n
 }

@@ -3,12 +3,12 @@ package years
 import (
 	"gyttja/api"
 	"gyttja/cases"
+	"gyttja/event"
 )
 
 // CheckEvent reports whether an event is valid.
 func CheckEvent(v api.Event) api.Errno {
-	names := within(v.Id, 1, api.MaxSource) && within(v.Kind, 0, 99) && within(v.Mark, 0, api.MaxMark)
-	if !names || v.Lo < -api.MaxYears || v.Lo > v.Hi || v.Hi > api.MaxYears {
+	if !event.IsValid(v) {
 		return api.ErrEvent
 	}
 	return api.OK

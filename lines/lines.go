@@ -6,17 +6,36 @@ import (
 	"strings"
 )
 
-// Said ranges over the lines of a text that say something: the number of each, from 1 on, and its words.
-func Said(text string) iter.Seq2[int, []string] {
-	return func(yield func(int, []string) bool) {
-		no := 0
-		for l := range strings.Lines(text) {
-			no++
-			words := wordsOf(strings.TrimSuffix(l, "\n"))
-			if len(words) == 0 || l[0] == '#' {
+// Of returns the lines of a text, without their line feeds. Behind a line feed at the end there is no further line.
+func Of(text string) []string {
+	if text == "" {
+		return nil
+	}
+	return strings.Split(strings.TrimSuffix(text, "\n"), "\n")
+}
+
+// Count is the number of all lines of a text, also of those that say nothing.
+func Count(text string) int { return len(Of(text)) }
+
+// Saying ranges over the lines of a text that say something: the number of each, from 1 on, and the line itself.
+func Saying(text string) iter.Seq2[int, string] {
+	return func(yield func(int, string) bool) {
+		for i, l := range Of(text) {
+			if len(wordsOf(l)) == 0 || l[0] == '#' {
 				continue
 			}
-			if !yield(no, words) {
+			if !yield(i+1, l) {
+				return
+			}
+		}
+	}
+}
+
+// Said ranges likewise: the number of each line, and its words.
+func Said(text string) iter.Seq2[int, []string] {
+	return func(yield func(int, []string) bool) {
+		for no, l := range Saying(text) {
+			if !yield(no, wordsOf(l)) {
 				return
 			}
 		}
@@ -26,15 +45,6 @@ func Said(text string) iter.Seq2[int, []string] {
 // wordsOf parts a line at spaces, and at no other white space.
 func wordsOf(line string) []string {
 	return strings.FieldsFunc(line, func(r rune) bool { return r == ' ' })
-}
-
-// Count is the number of all lines of a text, also of those that say nothing.
-func Count(text string) int {
-	n := strings.Count(text, "\n")
-	if text != "" && !strings.HasSuffix(text, "\n") {
-		n++
-	}
-	return n
 }
 
 // Number reads digits alone, at most so many, for which an int must have room: strconv would allow signs and leading zeros. It is not ok if the word is no such number.

@@ -32,15 +32,47 @@ func TestSaid(t *testing.T) {
 	}
 }
 
-// The range may be left, and begun again.
+// The ranges may be left, and begun again.
 func TestSaidIsLeft(t *testing.T) {
-	said := lines.Said("a\nb\nc")
+	said, saying := lines.Said("a\nb\nc"), lines.Saying("a\nb\nc")
 	for range 2 {
 		for no, words := range said {
 			if no != 1 || !slices.Equal(words, []string{"a"}) {
 				t.Error(no, words)
 			}
 			break
+		}
+		for no, l := range saying {
+			if no != 1 || l != "a" {
+				t.Error(no, l)
+			}
+			break
+		}
+	}
+}
+
+// The lines that say something are told as they stand, without their line feeds.
+func TestSaying(t *testing.T) {
+	for text, want := range map[string]string{
+		"": "", "\n": "", " a  b \n\n#c\n #d\n  \ne": `1:" a  b " 4:" #d" 6:"e"`, "\"x\\\n\r\n#": `1:"\"x\\" 2:"\r"`,
+	} {
+		var said []string
+		for no, l := range lines.Saying(text) {
+			said = append(said, strconv.Itoa(no)+":"+strconv.Quote(l))
+		}
+		if got := strings.Join(said, " "); got != want {
+			t.Errorf("%q: %s", text, got)
+		}
+	}
+}
+
+// Behind a line feed at the end there is no further line, and an empty text has none.
+func TestOf(t *testing.T) {
+	for text, want := range map[string][]string{
+		"": nil, "\n": {""}, "a": {"a"}, "a\n": {"a"}, "a\n\n": {"a", ""}, "\na": {"", "a"}, "a\r\n#b\n ": {"a\r", "#b", " "},
+	} {
+		if l := lines.Of(text); !slices.Equal(l, want) {
+			t.Errorf("%q: %q", text, l)
 		}
 	}
 }

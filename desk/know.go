@@ -51,13 +51,13 @@ type scribe struct {
 func scribeOf(b api.Book) scribe { return scribe{b, map[api.Place]saying{}} }
 
 // heard returns what a base entry says by the text of its heir.
-func (s scribe) heard(x api.Entry, heir api.Place) saying {
-	if says, ok := s.read[heir]; ok {
+func (s scribe) heard(h heir) saying {
+	if says, ok := s.read[h.at]; ok {
 		return says
 	}
-	i := slices.IndexFunc(s.Entries, func(y api.Entry) bool { return y.At == heir })
-	says := sayingOf(x.Kind, s.Entries[i].Text, Source(heir))
-	s.read[heir] = says
+	i := slices.IndexFunc(s.Entries, func(x api.Entry) bool { return x.At == h.at })
+	says := sayingOf(h.of.Kind, s.Entries[i].Text, Source(h.at))
+	s.read[h.at] = says
 	return says
 }
 
@@ -82,7 +82,7 @@ func heirs(b api.Book, hour int) []heir {
 func (s scribe) know(hour int) api.Known {
 	var k api.Known
 	for _, h := range heirs(s.Book, hour) {
-		if e := add(&k, s.heard(h.of, h.at)); e != api.OK {
+		if e := add(&k, s.heard(h)); e != api.OK {
 			k.Void = append(k.Void, api.Void{At: h.at, Code: e})
 		}
 	}

@@ -14,11 +14,11 @@ func script(text string) []api.Command {
 	if len(text) > api.MaxScript {
 		refuse(api.ErrLong)
 	}
-	said := 0
+	saying := 0
 	for range lines.Saying(text) {
-		said++
+		saying++
 	}
-	if said > api.MaxLines {
+	if saying > api.MaxLines {
 		refuse(api.ErrLong)
 	}
 	var commands []api.Command
@@ -46,9 +46,9 @@ func Run(text string) (string, int, api.Errno) {
 }
 
 // textOf writes lines, each with a line feed.
-func textOf(lines []string) string {
+func textOf(answer []string) string {
 	var b strings.Builder
-	for _, l := range lines {
+	for _, l := range answer {
 		b.WriteString(l + "\n")
 	}
 	return b.String()
